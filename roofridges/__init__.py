@@ -1,0 +1,1 @@
+"""Roofridges: roofs over yards, and what their cuts, strips and crests tell."""

@@ -1,0 +1,67 @@
+"""Numbers: tuples (top, bottom) in lowest terms, with a bottom above nought."""
+
+from roofridges.errors import NoNumber
+
+
+def is_whole(thing):
+    # Python counts truths among its whole numbers, the program does not.
+    return isinstance(thing, int) and not isinstance(thing, bool)
+
+
+def common_divisor(one, other):
+    while other != 0:
+        rest = one % other
+        one = other
+        other = rest
+    return abs(one)
+
+
+def lowest(top, bottom):
+    """The number of a top and a bottom that is known not to be 0."""
+    divisor = common_divisor(top, bottom)
+    # The sign is kept by the top alone, so that a number has one form.
+    if bottom < 0:
+        divisor = -divisor
+    return (top // divisor, bottom // divisor)
+
+
+def is_number(thing):
+    """Whether any plain thing is a number."""
+    if not isinstance(thing, tuple) or len(thing) != 2:
+        return False
+    if not is_whole(thing[0]) or not is_whole(thing[1]):
+        return False
+    return thing[1] >= 1 and common_divisor(thing[0], thing[1]) == 1
+
+
+def fraction(top, bottom):
+    """The number of two whole numbers, or NoNumber."""
+    if not is_whole(top) or not is_whole(bottom):
+        raise NoNumber("a number is made of two whole numbers")
+    if bottom == 0:
+        raise NoNumber("the bottom of a number is not nought")
+    return lowest(top, bottom)
+
+
+def plus(one, other):
+    return lowest(one[0] * other[1] + other[0] * one[1], one[1] * other[1])
+
+
+def minus(one, other):
+    return lowest(one[0] * other[1] - other[0] * one[1], one[1] * other[1])
+
+
+def times(one, other):
+    return lowest(one[0] * other[0], one[1] * other[1])
+
+
+def over(one, other):
+    """The first divided by the second, or NoNumber where that is nought."""
+    if other[0] == 0:
+        raise NoNumber("no number is divided by nought")
+    return lowest(one[0] * other[1], one[1] * other[0])
+
+
+def under(one, other):
+    """Whether the first is less than the second."""
+    return one[0] * other[1] < other[0] * one[1]
