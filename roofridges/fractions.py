@@ -2,6 +2,8 @@
 
 from roofridges.errors import NoNumber
 
+NOUGHT = (0, 1)
+
 
 def is_whole(thing):
     # Python counts truths among its whole numbers, the program does not.
@@ -65,3 +67,19 @@ def over(one, other):
 def under(one, other):
     """Whether the first is less than the second."""
     return one[0] * other[1] < other[0] * one[1]
+
+
+def merged(one, other):
+    """Two rising lists of numbers as one rising list, each number once."""
+    told = []
+    first = 0
+    second = 0
+    while first < len(one) and second < len(other):
+        ahead = one[first]
+        if under(other[second], ahead):
+            ahead = other[second]
+        # A number that both have is passed in both, so that it is told once.
+        first = first + (1 if one[first] == ahead else 0)
+        second = second + (1 if other[second] == ahead else 0)
+        told.append(ahead)
+    return told + list(one[first:]) + list(other[second:])

@@ -1,8 +1,9 @@
 """Yards: tuples (xs, ys, rows) of lines and of the cells between them."""
 
 from roofridges.errors import NoYard
-from roofridges.fractions import fraction, is_number, is_whole, minus, plus, times, under
+from roofridges.fractions import NOUGHT, fraction, is_number, is_whole, minus, plus, times, under
 
+VOID = ((), (), ())
 MOST_LINES = 7
 FARTHEST = 1000000000
 
@@ -93,7 +94,7 @@ def made(xs, ys, rows):
 
 def width(xs, row):
     """How wide the cells of a row are together."""
-    told = fraction(0, 1)
+    told = NOUGHT
     for place, sign in enumerate(row):
         if sign == "#":
             told = plus(told, minus(xs[place + 1], xs[place]))
@@ -102,7 +103,7 @@ def width(xs, row):
 
 def size(yard):
     """The sizes of the yard's cells together."""
-    told = fraction(0, 1)
+    told = NOUGHT
     for place, row in enumerate(yard[2]):
         tall = minus(yard[1][place + 1], yard[1][place])
         told = plus(told, times(tall, width(yard[0], row)))

@@ -6,18 +6,13 @@ from itertools import product
 
 from roofridges.errors import NoNumber
 from roofridges.fractions import fraction, is_number, minus, over, plus, times, under
+from tests.helpers import BIG, told
 
-BIG = 10 ** 60 - 1
 SOME = [
     (0, 1), (1, 1), (-1, 1), (1, 2), (-1, 2), (2, 3), (-7, 3), (5, 6), (9, 4), (-4, 9), (10, 1), (1, 10),
     (BIG, 1), (-BIG, 1), (1, BIG), (-1, BIG), (BIG, BIG - 1), (BIG - 1, BIG), (-BIG + 1, BIG),
     (2 * 10 ** 58 + 3, 3 * 10 ** 59),
 ]
-
-
-def told(worth):
-    """The number of a Fraction, which is a check from outside the program."""
-    return (worth.numerator, worth.denominator)
 
 
 def nested(depth, inner):

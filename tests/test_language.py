@@ -26,6 +26,11 @@ NAMES_OUT = set(
     "register mro elements open input version_info with_traceback add_note attrgetter breakpoint builtins compile "
     "copyright credits delattr dir eval exec exit gc getattr globals hasattr help id importlib license locals "
     "methodcaller os quit setattr super type vars chr".split())
+KEYWORDS = {
+    "sorted": ("key", "reverse"), "min": ("key", "default"), "max": ("key", "default"), "sum": ("start",),
+    "enumerate": ("start",), "zip": ("strict",)}
+WALKED = ("zip", "enumerate", "reversed", "range", "items", "keys", "values")
+WALKERS = ("list", "tuple", "dict", "sorted", "sum", "any", "all", "enumerate", "zip", "min", "max")
 DUNDERS = {"__init__", "__eq__", "__repr__", "__str__", "__len__"}
 NODES_OUT = (
     ast.With, ast.Match, ast.Delete, ast.Global, ast.Nonlocal, ast.Assert, ast.Yield, ast.YieldFrom, ast.AsyncFunctionDef,
@@ -46,6 +51,16 @@ def bound_names(tree):
         elif isinstance(node, ast.ExceptHandler) and node.name:
             names.append((node.name, node.lineno))
     return names
+
+
+def top_names(tree):
+    """The names that a file defines at its top."""
+    names = [node.name for node in tree.body if isinstance(node, (ast.FunctionDef, ast.ClassDef))]
+    return names + [node.targets[0].id for node in tree.body if isinstance(node, ast.Assign)]
+
+
+def called_name(node):
+    return node.func.id if isinstance(node.func, ast.Name) else getattr(node.func, "attr", "")
 
 
 def is_plain(node):
@@ -130,6 +145,51 @@ class LanguageTest(unittest.TestCase):
                     self.assertTrue((PACKAGE.parent / (node.module.replace(".", "/") + ".py")).is_file(), where)
                     self.assertTrue(all(name.name != "*" and name.asname is None for name in node.names), where)
 
+    def test_imports_are_drawn_from_the_file_that_defines_the_name(self):
+        drawn = {}
+        for path, text, tree in self.each_file():
+            drawn[path.stem] = []
+            for node in tree.body:
+                if isinstance(node, ast.ImportFrom):
+                    stem = node.module.rpartition(".")[2]
+                    defined = top_names(ast.parse((PACKAGE / f"{stem}.py").read_text(encoding="utf-8")))
+                    drawn[path.stem].append(stem)
+                    for name in node.names:
+                        self.assertIn(name.name, defined, f"{path.name}:{node.lineno}")
+        # What draws from nothing that is left is taken away until nothing is left, or a ring.
+        while drawn:
+            free = [stem for stem, many in drawn.items() if not [one for one in many if one in drawn]]
+            self.assertTrue(free, f"files that draw from one another: {sorted(drawn)}")
+            for stem in free:
+                del drawn[stem]
+
+    def test_no_annotations_no_other_keywords_and_no_free_powers(self):
+        for node, where in self.each_node():
+            if isinstance(node, ast.FunctionDef):
+                self.assertIsNone(node.returns, where)
+            if isinstance(node, ast.arg):
+                self.assertIsNone(node.annotation, where)
+            if isinstance(node, ast.Call) and node.keywords and isinstance(node.func, ast.Name):
+                allowed = KEYWORDS.get(node.func.id)
+                if node.func.id in OWN_NAMES:
+                    self.assertTrue(all(word.arg in (allowed or ()) for word in node.keywords), where)
+            if isinstance(node, ast.BinOp) and isinstance(node.op, ast.Pow):
+                self.assertIsInstance(node.right, ast.Constant, where)
+
+    def test_walks_are_walked_on_the_spot(self):
+        for path, text, tree in self.each_file():
+            allowed = []
+            for node in ast.walk(tree):
+                if isinstance(node, (ast.For, ast.comprehension)):
+                    allowed.append(node.iter)
+                if isinstance(node, ast.Call) and isinstance(node.func, ast.Name) and node.func.id in WALKERS:
+                    allowed += node.args if node.func.id == "zip" else node.args[:1]
+                if isinstance(node, ast.Call) and isinstance(node.func, ast.Attribute) and node.func.attr == "join":
+                    allowed += node.args
+            for node in ast.walk(tree):
+                if isinstance(node, ast.Call) and called_name(node) in WALKED:
+                    self.assertIn(node, allowed, f"{path.name}:{node.lineno}")
+
     def test_the_top_of_a_file(self):
         for path, text, tree in self.each_file():
             self.assertTrue(ast.get_docstring(tree), path.name)
@@ -138,8 +198,7 @@ class LanguageTest(unittest.TestCase):
                 self.assertIsInstance(node, (ast.ImportFrom, ast.FunctionDef, ast.ClassDef, ast.Assign), where)
                 if isinstance(node, ast.Assign):
                     self.assertTrue(is_plain(node.value), where)
-            tops = [node.name for node in tree.body if isinstance(node, (ast.FunctionDef, ast.ClassDef))]
-            tops += [node.targets[0].id for node in tree.body if isinstance(node, ast.Assign)]
+            tops = top_names(tree)
             tops += [name.name for node in tree.body if isinstance(node, ast.ImportFrom) for name in node.names]
             self.assertEqual(len(tops), len(set(tops)), path.name)
 
@@ -177,10 +236,7 @@ class LanguageTest(unittest.TestCase):
     def test_sets_and_walks_are_not_kept(self):
         for node, where in self.each_node():
             if isinstance(node, ast.Assign) and isinstance(node.value, ast.Call):
-                called = node.value.func
-                name = called.id if isinstance(called, ast.Name) else called.attr
-                self.assertNotIn(name, ("set", "frozenset", "zip", "enumerate", "reversed", "range", "items", "keys", "values"),
-                                 where)
+                self.assertNotIn(called_name(node.value), ("set", "frozenset") + WALKED, where)
 
     def test_errors(self):
         for node, where in self.each_node():

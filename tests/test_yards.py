@@ -7,21 +7,10 @@ from itertools import product
 
 from roofridges.errors import NoYard
 from roofridges.yards import is_yard, lies, made, size
+from tests.helpers import BIG, FAR, RING, VOID, cell_at, grids, whole, worth
 
-FAR = 10 ** 9
-BIG = 10 ** 60 - 1
-VOID = ((), (), ())
 WHOLE = (((0, 1), (1, 1), (3, 1)), ((0, 1), (2, 1), (5, 1)), ("#.", "##"))
 PARTED = (((-7, 2), (1, 3), (1, 2)), ((-1, BIG), (0, 1), (BIG, 8)), (".#", "#."))
-RING = (
-    ((0, 1), (1, 1), (2, 1), (3, 1)),
-    ((0, 1), (1, 1), (2, 1), (3, 1)),
-    ("###", "#.#", "###"),
-)
-
-
-def whole(*lines):
-    return tuple((line, 1) for line in lines)
 
 
 def bent(yard, part, place, thing):
@@ -29,25 +18,6 @@ def bent(yard, part, place, thing):
     parts = [list(one) for one in yard]
     parts[part][place] = thing
     return tuple(tuple(one) for one in parts)
-
-
-def grids(wide, high):
-    """All lists of rows so wide and so high."""
-    texts = ["".join(signs) for signs in product("#.", repeat=wide)]
-    return [list(rows) for rows in product(texts, repeat=high)]
-
-
-def cell_at(xs, ys, rows, x, y):
-    """Whether the cell is in that has the point (x, y), which lies on no line, within it."""
-    for up, row in enumerate(rows):
-        for across, sign in enumerate(row):
-            if ys[up] < y < ys[up + 1] and xs[across] < x < xs[across + 1]:
-                return sign == "#"
-    return False
-
-
-def worth(lines):
-    return [Fraction(*line) for line in lines]
 
 
 def expected_lies(yard, x, y):
