@@ -69,6 +69,14 @@ def under(one, other):
     return one[0] * other[1] < other[0] * one[1]
 
 
+def lesser(one, other):
+    return other if under(other, one) else one
+
+
+def greater(one, other):
+    return other if under(one, other) else one
+
+
 def merged(one, other):
     """Two rising lists of numbers as one rising list, each number once."""
     told = []

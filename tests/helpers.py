@@ -189,3 +189,57 @@ def some_yards(seed, count, most=6):
 
 def all_yards():
     return list(SHAPES.values()) + list(GREAT.values()) + some_yards(1, 60) + some_yards(2, 8, most=12)
+
+
+PACES = [(1, 1, 1, 1), (1, 2, 3, 4), (9, 1, 4, 7), (5, 5, 2, 3), (2, 9, 9, 1)]
+
+
+def cells_outside(yard):
+    """The cells outside between the lines, as (x1, x2, y1, y2)."""
+    xs, ys = worth(yard[0]), worth(yard[1])
+    return [(xs[across], xs[across + 1], ys[up], ys[up + 1])
+            for up, row in enumerate(yard[2]) for across, sign in enumerate(row) if sign == "."]
+
+
+def box_of(paces, x, y, height):
+    """The box about a point, as (west, east, south, north)."""
+    east, north, west, south = paces
+    return (x - east * height, x + west * height, y - north * height, y + south * height)
+
+
+def box_lies_in(yard, paces, x, y, height):
+    """Whether no point within the box is one within a cell outside or beyond the lines."""
+    if height == 0:
+        return True
+    if yard == VOID:
+        return False
+    west, east, south, north = box_of(paces, x, y, height)
+    xs, ys = worth((yard[0][0], yard[0][-1])), worth((yard[1][0], yard[1][-1]))
+    if west < xs[0] or east > xs[1] or south < ys[0] or north > ys[1]:
+        return False
+    return not any(west < x2 and east > x1 and south < y2 and north > y1 for x1, x2, y1, y2 in cells_outside(yard))
+
+
+def turning_heights(yard, paces, x, y):
+    """Nought and all heights at which an edge of the point's box lies on a line, rising."""
+    east, north, west, south = paces
+    found = {Fraction(0)}
+    for line in worth(yard[0]):
+        found |= {(x - line) / east, (line - x) / west}
+    for line in worth(yard[1]):
+        found |= {(y - line) / north, (line - y) / south}
+    return sorted(height for height in found if height >= 0)
+
+
+def expected_height(yard, paces, x, y):
+    """The greatest of the heights at which a box can stop to lie in the yard."""
+    return max(height for height in turning_heights(yard, paces, x, y) if box_lies_in(yard, paces, x, y, height))
+
+
+def expected_touch(paces, x, y, height, side):
+    """Whether the side has a point in common with the box's edge on its own side."""
+    facing, line, begin, end = side[0], Fraction(*side[1]), Fraction(*side[2]), Fraction(*side[3])
+    west, east, south, north = box_of(paces, x, y, height)
+    edge = {0: west, 1: south, 2: east, 3: north}[facing]
+    low, high = (south, north) if facing in (0, 2) else (west, east)
+    return line == edge and max(begin, low) <= min(end, high)
