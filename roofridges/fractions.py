@@ -91,3 +91,15 @@ def merged(one, other):
         second = second + (1 if other[second] == ahead else 0)
         told.append(ahead)
     return told + list(one[first:]) + list(other[second:])
+
+
+def rising(numbers):
+    """The numbers sorted by what they are worth, each once."""
+    if len(numbers) < 2:
+        return list(numbers)
+    middle = len(numbers) // 2
+    return merged(rising(numbers[:middle]), rising(numbers[middle:]))
+
+
+def mean(one, other):
+    return times((1, 2), plus(one, other))

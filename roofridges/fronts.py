@@ -17,19 +17,24 @@ def is_edge(yard, facing, place, band):
     return before and not beyond
 
 
-def stretches(yard, facing, place):
-    """The stretches of the line at this place that are sides of this facing, by the places of begin and end."""
+def runs(truths):
+    """The stretches of neighbouring truths that are True, each by the places of its begin and its end."""
     told = []
     begin = None
-    # The last band lies beyond the lines, so that no stretch goes on there.
-    for band in range(len(yard[1 - facing % 2])):
-        edge = is_edge(yard, facing, place, band)
-        if edge and begin is None:
-            begin = band
-        if not edge and begin is not None:
-            told.append((begin, band))
+    # Behind the last one none goes on.
+    for place, truth in enumerate(truths + [False]):
+        if truth and begin is None:
+            begin = place
+        if not truth and begin is not None:
+            told.append((begin, place))
             begin = None
     return told
+
+
+def stretches(yard, facing, place):
+    """The stretches of the line at this place that are sides of this facing, by the places of begin and end."""
+    bands = len(yard[1 - facing % 2]) - 1
+    return runs([is_edge(yard, facing, place, band) for band in range(bands)])
 
 
 def sides(yard):

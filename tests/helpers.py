@@ -243,3 +243,124 @@ def expected_touch(paces, x, y, height, side):
     edge = {0: west, 1: south, 2: east, 3: north}[facing]
     low, high = (south, north) if facing in (0, 2) else (west, east)
     return line == edge and max(begin, low) <= min(end, high)
+
+
+def minus_all(numbers):
+    return tuple(told(-Fraction(*number)) for number in numbers)
+
+
+def front_rank(front):
+    """What fronts are sorted by."""
+    return (front[0], Fraction(*front[1]))
+
+
+def moving_line(paces, front, height):
+    """A front's line, a Fraction, at a height, a Fraction."""
+    way = paces[front[0]] * height
+    return Fraction(*front[1]) + (way if front[0] in (0, 1) else -way)
+
+
+def meeting_heights(paces, fronts):
+    """Nought and all heights at which two of these fronts that go toward one another meet, rising."""
+    found = {Fraction(0)}
+    for (facing, line), (other, ahead) in product(fronts, fronts):
+        if (facing, other) in ((0, 2), (1, 3)) and Fraction(*line) < Fraction(*ahead):
+            found.add((Fraction(*ahead) - Fraction(*line)) / (paces[facing] + paces[other]))
+    return sorted(found)
+
+
+def heights_between(heights, parts=(Fraction(1, 3), Fraction(6, 7))):
+    """Heights within each stretch between neighbouring ones, and one behind the last."""
+    found = [low + (high - low) * part for low, high in zip(heights, heights[1:]) for part in parts]
+    return found + [heights[-1] + 1]
+
+
+TURNED_FACING = {0: (1, 1), 1: (2, -1), 2: (3, 1), 3: (0, -1)}
+MIRRORED_FACING = {0: (2, -1), 1: (1, 1), 2: (0, -1), 3: (3, 1)}
+
+
+class Bringing:
+    """A way in which a yard is brought elsewhere, and what comes of its fronts, strips, ridges, crests."""
+
+    def __init__(self, yard, paces, facings=None, by=(1, 1), add=(0, 0), height_by=1):
+        self.yard, self.paces = yard, paces
+        self.facings = facings or {facing: (facing, 1) for facing in range(4)}
+        self.by, self.add, self.height_by = by, add, Fraction(height_by)
+
+    def number(self, facing, line):
+        """The line to which a line goes on which sides of this facing lie."""
+        brought, sign = self.facings[facing]
+        return told(Fraction(*line) * sign * self.by[brought % 2] + self.add[brought % 2])
+
+    def height(self, number):
+        return told(Fraction(*number) * self.height_by)
+
+    def front(self, front):
+        return (self.facings[front[0]][0], self.number(*front))
+
+    def ends(self, facing, begin, end):
+        """Two ends, in their order, of what lies along lines of this facing."""
+        return (end, begin) if self.facings[(facing + 1) % 4][1] < 0 else (begin, end)
+
+    def strip(self, strip):
+        front, first, last, low, high = strip
+        first, last = self.ends(front[0], self.front(first), self.front(last))
+        return (self.front(front), first, last, self.height(low), self.height(high))
+
+    def strips(self, strips):
+        return sorted([self.strip(strip) for strip in strips], key=strip_rank)
+
+    def ridges(self, ridges):
+        brought = [(kind,) + tuple(sorted([self.front(one), self.front(other)], key=lambda front: front[0] % 2))
+                   + (self.height(low), self.height(high)) for kind, one, other, low, high in ridges]
+        return sorted(brought, key=ridge_rank)
+
+    def crest(self, crest):
+        height, one, other, begin, end = crest
+        one, other = sorted([self.front(one), self.front(other)])
+        along = (crest[1][0] + 1) % 4
+        begin, end = self.ends(crest[1][0], self.number(along, begin), self.number(along, end))
+        return (self.height(height), one, other, begin, end)
+
+    def crests(self, crests):
+        return sorted([self.crest(crest) for crest in crests], key=crest_rank)
+
+
+def strip_rank(strip):
+    return (front_rank(strip[0]), Fraction(*strip[3]), front_rank(strip[1]), front_rank(strip[2]))
+
+
+def ridge_rank(ridge):
+    return (front_rank(ridge[1]), front_rank(ridge[2]), Fraction(*ridge[3]), ridge[0])
+
+
+def crest_rank(crest):
+    return (Fraction(*crest[0]), front_rank(crest[1]), front_rank(crest[2]), Fraction(*crest[3]))
+
+
+def lines_brought(yard, by, add):
+    return (tuple(told(line * by[0] + add[0]) for line in worth(yard[0])),
+            tuple(told(line * by[1] + add[1]) for line in worth(yard[1])), yard[2])
+
+
+def mirrored_yard(yard):
+    return (minus_all(yard[0][::-1]), yard[1], tuple(row[::-1] for row in yard[2]))
+
+
+def turned_yard(yard):
+    return (minus_all(yard[1][::-1]), yard[0], tuple("".join(column)[::-1] for column in zip(*yard[2])))
+
+
+def bringings(yard, paces):
+    """The yard moved, turned, mirrored, stretched with its paces and by one number, each as a Bringing."""
+    east, north, west, south = paces
+    add = (Fraction(-7, 3), Fraction(5, 2))
+    yield Bringing(lines_brought(yard, (1, 1), add), paces, add=add)
+    yield Bringing(turned_yard(yard), (south, east, north, west), TURNED_FACING)
+    yield Bringing(mirrored_yard(yard), (west, north, east, south), MIRRORED_FACING)
+    by = (9 // max(east, west), 9 // max(north, south))
+    stretched_paces = (east * by[0], north * by[1], west * by[0], south * by[1])
+    yield Bringing(lines_brought(yard, by, (0, 0)), stretched_paces, by=by)
+    for both_ways in (Fraction(1, 3), Fraction(7, 2)):
+        by = (both_ways, both_ways)
+        yield Bringing(lines_brought(yard, by, (0, 0)), paces, by=by, height_by=both_ways)
