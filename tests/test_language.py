@@ -238,6 +238,61 @@ class LanguageTest(unittest.TestCase):
             if isinstance(node, ast.Assign) and isinstance(node.value, ast.Call):
                 self.assertNotIn(called_name(node.value), ("set", "frozenset") + WALKED, where)
 
+    def test_lists_and_dicts_of_a_file_s_top_are_only_read(self):
+        for path, text, tree in self.each_file():
+            kept = {node.targets[0].id for node in tree.body
+                    if isinstance(node, ast.Assign) and isinstance(node.value, (ast.List, ast.Dict))}
+            for node in tree.body:
+                if isinstance(node, ast.Assign) and isinstance(node.value, (ast.List, ast.Dict)):
+                    parts = node.value.elts if isinstance(node.value, ast.List) else node.value.values
+                    self.assertFalse([part for part in parts if isinstance(part, (ast.List, ast.Dict))], path.name)
+            read = []
+            for node in ast.walk(tree):
+                if isinstance(node, ast.Subscript) and isinstance(node.ctx, ast.Load):
+                    read.append(node.value)
+                if isinstance(node, ast.Compare):
+                    read += node.comparators
+                if isinstance(node, (ast.For, ast.comprehension)):
+                    read.append(node.iter)
+                if isinstance(node, ast.Call) and called_name(node) in ("len", "list", "dict", "tuple", "sorted", "zip", "enumerate"):
+                    read += node.args
+                if isinstance(node, ast.Attribute) and node.attr in ("get", "items", "keys", "values", "index", "count"):
+                    read.append(node.value)
+            for node in ast.walk(tree):
+                if isinstance(node, ast.Name) and node.id in kept and isinstance(node.ctx, ast.Load):
+                    self.assertIn(node, read, f"{path.name}:{node.lineno}")
+
+    def test_methods_and_values_of_objects(self):
+        methods, values = set(), set()
+        own = set(dir("")) | set(dir(0)) | set(dir([])) | set(dir({})) | set(dir(set())) | set(dir(b""))
+        for node, where in self.each_node():
+            if isinstance(node, ast.ClassDef):
+                names = [part.name for part in node.body if isinstance(part, ast.FunctionDef)]
+                self.assertEqual(len(names), len(set(names)), where)
+                methods |= set(names)
+            if isinstance(node, ast.Attribute) and isinstance(node.ctx, ast.Store):
+                values.add(node.attr)
+                self.assertIsInstance(node.value, ast.Name, where)
+        self.assertFalse(methods & values)
+        self.assertFalse((methods - DUNDERS | values) & own)
+
+    def test_classes_are_called_or_raised_alone(self):
+        for path, text, tree in self.each_file():
+            classes = {name.name for node in tree.body if isinstance(node, ast.ImportFrom) for name in node.names
+                       if name.name[0].isupper() and not name.name.isupper()}
+            classes |= {node.name for node in tree.body if isinstance(node, ast.ClassDef)}
+            right = []
+            for node in ast.walk(tree):
+                if isinstance(node, ast.Call):
+                    right += [node.func] + (node.args[1:] if called_name(node) == "isinstance" else [])
+                if isinstance(node, ast.ExceptHandler):
+                    right.append(node.type)
+                if isinstance(node, ast.ClassDef):
+                    right += node.bases
+            for node in ast.walk(tree):
+                if isinstance(node, ast.Name) and node.id in classes:
+                    self.assertIn(node, right, f"{path.name}:{node.lineno}")
+
     def test_errors(self):
         for node, where in self.each_node():
             if isinstance(node, ast.ExceptHandler):
